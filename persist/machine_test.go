@@ -9,7 +9,6 @@ import (
 	"bellows/machine"
 	"bellows/persist"
 	"bellows/script"
-	"bellows/trace"
 )
 
 // shape is that of these machines: of four lines one forgets; the L1s are small, so that lines are put out.
@@ -50,51 +49,59 @@ func wander(m *machine.Machine, d *dice, n int) (l []api.Event) {
 	return l
 }
 
-// P19.1, P19.2: what a machine leaves of each line that does not forget may be left, word by word too, wherever and however often power fails; what was there ahead of the sure moment alone may not.
+// met counts what the machines came by, so that the tests are seen to have met it.
+type met struct {
+	later  int // lines that were stored to behind their last push
+	tooOld int // moments ahead of the sure one, whose words are not there again
+}
+
+// checkLeft holds that the words left are those of the sure moment, as a machine writes nothing but pushes, and that they may be left, word by word too.
+func checkLeft(t *testing.T, was, left api.Line, l []api.Event, line int, m *met) {
+	t.Helper()
+	h, sure := persist.History(was, l, line), persist.Sure(l, line)
+	if h[sure] != left || !persist.May(was, left, l, line) {
+		t.Fatalf("line %d of %+v: %v behind %v; sure was %v", line, l, left, was, h[sure])
+	}
+	for w, v := range left {
+		if !persist.Word(was[w], v, l, line, w) {
+			t.Fatalf("word %d of line %d of %+v: %d behind %d", w, line, l, v, was[w])
+		}
+	}
+	if sure < len(h)-1 {
+		m.later++
+	}
+	for _, old := range h[:sure] {
+		if slices.Contains(h[sure:], old) {
+			continue
+		}
+		m.tooOld++
+		if persist.May(was, old, l, line) {
+			t.Fatalf("line %d of %+v: %v may be left, which is too old", line, l, old)
+		}
+	}
+}
+
+// P19.1, P19.2: what a machine leaves of each line that does not forget, wherever and however often power fails.
 func TestMachines(t *testing.T) {
 	d := dice(11)
-	elder, later, tooOld := 0, 0, 0
+	var all met
 	for n := range 500 {
 		m, e := machine.New(shape, image(), [][]uint64{code(t, 0), code(t, 1)}, code(t, 3))
 		if e != api.OK {
 			t.Fatalf("New: %d", e)
 		}
 		was := image()
-		var l []api.Event
 		for range 3 {
-			l = append(l, wander(m, &d, n)...)
-			l = append(l, m.Do(api.Act{Kind: api.ActFail})...)
-			parts := trace.Cut(l)
-			part, left := parts[len(parts)-2], m.System().Memory()
+			l := wander(m, &d, n)
+			m.Do(api.Act{Kind: api.ActFail})
+			left := m.System().Memory()
 			for line := shape.Volatile; line < shape.Lines; line++ {
-				if !persist.May(was[line], left[line], part, line) {
-					t.Fatalf("%d acts, line %d of %+v: %v behind %v", n, line, part, left[line], was[line])
-				}
-				for w, v := range left[line] {
-					if !persist.Word(was[line][w], v, part, line, w) {
-						t.Fatalf("%d acts, word %d of line %d of %+v: %d behind %d", n, w, line, part, v, was[line][w])
-					}
-				}
-				h, sure := persist.History(was[line], part, line), persist.Sure(part, line)
-				if h[sure] != left[line] {
-					t.Fatalf("%d acts, line %d of %+v: %v; sure was %v", n, line, part, left[line], h[sure])
-				}
-				if sure < len(h)-1 {
-					later++
-				}
-				for _, old := range h[:sure] {
-					if elder++; !slices.Contains(h[sure:], old) {
-						tooOld++
-						if persist.May(was[line], old, part, line) {
-							t.Fatalf("%d acts, line %d of %+v: %v may be left", n, line, part, old)
-						}
-					}
-				}
+				checkLeft(t, was[line], left[line], l, line, &all)
 			}
 			was = left
 		}
 	}
-	if elder < 1000 || later < 500 || tooOld < 500 {
-		t.Errorf("%d moments were elder than the sure one, %d of them not there again, %d lines had later ones; want more", elder, tooOld, later)
+	if all.later < 500 || all.tooOld < 500 {
+		t.Errorf("%d lines had moments behind the sure one, %d moments were too old; want more", all.later, all.tooOld)
 	}
 }
